@@ -1,0 +1,82 @@
+"""The interface at the document's end, and what the language tells of files."""
+
+import ast
+import importlib
+import inspect
+import unittest
+from pathlib import Path
+
+import turncoats
+
+PACKAGE = Path(turncoats.__file__).parent
+INTERFACE = {
+    "turns": {
+        "is_turn": ["thing", "size"], "plain": ["size"], "into": ["one", "other"], "undone": ["turn"],
+        "times": ["turn", "n"], "order": ["turn"], "sign": ["turn"],
+    },
+    "groups": {
+        "made": ["turns", "size"], "is_group": ["thing", "size"], "word": ["turns", "goal"],
+        "lot": ["turn", "group"], "lots": ["group", "size"], "commuted": ["group"], "leadings": ["group"],
+        "thirds": ["group"],
+    },
+}
+
+
+def trees():
+    for path in sorted(PACKAGE.glob("*.py")):
+        yield path, ast.parse(path.read_text(encoding="utf-8"))
+
+
+class Interface(unittest.TestCase):
+    def test_each_def_stands_in_its_file(self):
+        for file, told in INTERFACE.items():
+            tree = ast.parse((PACKAGE / f"{file}.py").read_text(encoding="utf-8"))
+            defs = [node.name for node in tree.body if isinstance(node, ast.FunctionDef)]
+            for name in told:
+                with self.subTest(file=file, name=name):
+                    self.assertEqual(defs.count(name), 1)
+
+    def test_arguments_are_named_as_told_and_go_by_place_or_name(self):
+        for file, told in INTERFACE.items():
+            module = importlib.import_module(f"turncoats.{file}")
+            for name, arguments in told.items():
+                found = inspect.signature(getattr(module, name)).parameters.values()
+                with self.subTest(file=file, name=name):
+                    self.assertEqual([one.name for one in found], arguments)
+                    self.assertTrue(all(one.kind is one.POSITIONAL_OR_KEYWORD for one in found))
+
+    def test_the_package_itself_binds_nothing(self):
+        tree = ast.parse((PACKAGE / "__init__.py").read_text(encoding="utf-8"))
+        self.assertEqual([node for node in tree.body if not isinstance(node, ast.Expr)], [])
+
+
+class Files(unittest.TestCase):
+    def test_imports_are_the_packages_own_or_let(self):
+        for path, tree in trees():
+            for node in ast.walk(tree):
+                self.assertNotIsInstance(node, ast.Import, path)
+                if isinstance(node, ast.ImportFrom):
+                    own = node.module.startswith("turncoats.")
+                    self.assertTrue(own or node.module in ("heapq", "math", "itertools", "collections"), path)
+
+    def test_files_functions_and_lines_are_short(self):
+        for path, tree in trees():
+            lines = path.read_text(encoding="utf-8").split("\n")
+            self.assertLess(len(lines), 400, path)
+            self.assertLess(max(len(line) for line in lines), 121, path)
+            for node in ast.walk(tree):
+                if isinstance(node, ast.FunctionDef):
+                    self.assertLess(node.end_lineno - node.lineno, 40, (path, node.name))
+
+    def test_only_plain_signs(self):
+        for path, _ in trees():
+            text = path.read_text(encoding="utf-8")
+            self.assertTrue(all(sign == "\n" or " " <= sign <= "~" for sign in text), path)
+
+    def test_nothing_else_is_in_the_folder(self):
+        found = [path.name for path in PACKAGE.iterdir() if path.name != "__pycache__" and path.suffix != ".py"]
+        self.assertEqual(found, [])
+
+
+if __name__ == "__main__":
+    unittest.main()
