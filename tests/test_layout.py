@@ -19,7 +19,29 @@ INTERFACE = {
         "lot": ["turn", "group"], "lots": ["group", "size"], "commuted": ["group"], "leadings": ["group"],
         "thirds": ["group"],
     },
+    "webtexts": {"web_text": ["web"], "read_web": ["text"]},
+    "parts": {"parts": ["web"], "kind": ["web", "part"], "root": ["web", "part", "place"], "round_of": ["web", "part"]},
 }
+# The classes: how they are made, and their methods.
+CLASSES = {
+    ("webs", "Web"): {
+        "__init__": ["many", "ways", "*size"], "many": [], "size": [], "ways": [], "beside": ["place"],
+        "turn": ["one", "other"], "joined": ["place"], "__eq__": ["other"],
+    },
+    ("standings", "Standing"): {
+        "__init__": ["web", "folk"], "web": [], "empty": [], "folk": [], "names": [], "where": ["name"],
+        "coat": ["name"], "who": ["place"], "step": ["place"], "__eq__": ["other"],
+    },
+}
+
+
+def arguments_of(what):
+    """The names of the arguments, those behind a * with it."""
+    found = []
+    for one in inspect.signature(what).parameters.values():
+        assert one.kind in (one.POSITIONAL_OR_KEYWORD, one.KEYWORD_ONLY), one
+        found.append(one.name if one.kind is one.POSITIONAL_OR_KEYWORD else "*" + one.name)
+    return found
 
 
 def trees():
@@ -40,10 +62,16 @@ class Interface(unittest.TestCase):
         for file, told in INTERFACE.items():
             module = importlib.import_module(f"turncoats.{file}")
             for name, arguments in told.items():
-                found = inspect.signature(getattr(module, name)).parameters.values()
                 with self.subTest(file=file, name=name):
-                    self.assertEqual([one.name for one in found], arguments)
-                    self.assertTrue(all(one.kind is one.POSITIONAL_OR_KEYWORD for one in found))
+                    self.assertEqual(arguments_of(getattr(module, name)), arguments)
+
+    def test_each_class_stands_in_its_file_with_its_methods(self):
+        for (file, name), told in CLASSES.items():
+            made = getattr(importlib.import_module(f"turncoats.{file}"), name)
+            self.assertEqual(made.__module__, f"turncoats.{file}")
+            for method, arguments in told.items():
+                with self.subTest(name=name, method=method):
+                    self.assertEqual(arguments_of(vars(made)[method]), ["self", *arguments])
 
     def test_the_package_itself_binds_nothing(self):
         tree = ast.parse((PACKAGE / "__init__.py").read_text(encoding="utf-8"))
