@@ -29,9 +29,11 @@ SHAPES = {
     "five": (5, "01 02 03 41 42 43"),
     "five otherwise": (5, "13 10 14 23 20 24"),
     "five in more": (7, "02 03 04 12 13 14 45 56"),
+    "five behind others": (7, "01 12 23 24 25 63 64 65"),
     "seven": (7, "01 12 23 34 45 50 06 63"),
     "seven otherwise": (7, "62 25 51 14 40 06 23 34"),
     "seven in more": (8, "01 12 23 34 45 50 06 63 57"),
+    "seven behind another": (8, "01 12 23 34 45 56 61 74 71"),
     "near a five: two joined": (5, "01 02 03 41 42 43 04"),
     "near a five: three joined": (5, "01 02 03 41 42 43 12"),
     "near a five: a house": (5, "01 12 23 34 40 13"),
@@ -158,3 +160,49 @@ def stepped(web, folk, empty, place):
         if at == place:
             told[name] = (empty, composed(coat, turn_of(web, place, empty)))
     return told
+
+
+def walked_by(standing, walk):
+    """The folk and the empty place behind a walk, step by step."""
+    folk, here = standing.folk(), standing.empty()
+    for place in walk:
+        folk, here = stepped(standing.web(), folk, here, place), place
+    return folk, here
+
+
+def lines_unfolded(fold):
+    """The pairs (begin, walk) that the lines of a fold are."""
+    told = []
+    for begin, items in fold:
+        walk = []
+        for item in items:
+            if isinstance(item, int):
+                walk.append(item)
+            else:
+                start, ahead = told[item[1]]
+                walk += ahead if item[2] == 1 else (([start] + ahead)[::-1])[1:]
+        told.append((begin, walk))
+    return told
+
+
+def some_fold(web, begin, chance=0, most=60):
+    """A fold that begins at a place, its last line of no more than so many steps."""
+    pick = Random(f"{web.ways()} {begin} {chance}")
+    told, fold = [], []
+    for number in range(pick.randint(1, 7)):
+        here = start = pick.randrange(web.many())
+        items, walk = [], []
+        for _ in range(pick.choice((0, 1, 2, 3, 5))):
+            fits = [("line", k, way) for k, (one, ahead) in enumerate(told) for way in (1, -1)
+                    if (one if way == 1 else (ahead or [one])[-1]) == here and len(ahead) + len(walk) <= most]
+            ways = [*fits, *web.beside(here)]
+            if ways:
+                items.append(pick.choice(ways))
+                walk = lines_unfolded([*fold, (start, tuple(items))])[-1][1]
+                here = (walk or [start])[-1]
+        fold.append((start, tuple(items)))
+        told.append((start, walk))
+    starts = [k for k, (one, _) in enumerate(told) if one == begin]
+    ends = [k for k, (one, walk) in enumerate(told) if (walk or [one])[-1] == begin]
+    fold.append((begin, tuple([("line", k, 1) for k in starts[-1:]] or [("line", k, -1) for k in ends[-1:]])))
+    return tuple(fold)

@@ -21,6 +21,17 @@ INTERFACE = {
     },
     "webtexts": {"web_text": ["web"], "read_web": ["text"]},
     "parts": {"parts": ["web"], "kind": ["web", "part"], "root": ["web", "part", "place"], "round_of": ["web", "part"]},
+    "standingtexts": {"standing_text": ["standing"], "read_standing": ["web", "text"]},
+    "walks": {
+        "walked": ["standing", "walk"], "is_fold": ["web", "thing"], "effect": ["web", "fold"],
+        "led": ["standing", "fold"], "length": ["web", "fold"], "unfolded": ["web", "fold", "*most"],
+        "folded": ["begin", "walk"], "turned_back": ["web", "fold"], "one_behind_other": ["web", "one", "other"],
+    },
+    "foldtexts": {"fold_text": ["fold"], "read_fold": ["text"]},
+    "heights": {
+        "heights": ["web", "part", "root"], "own_way": ["web", "part", "root", "one", "other"],
+        "own_turn": ["standing", "part", "root", "name"], "group_of": ["web", "part", "root"],
+    },
 }
 # The classes: how they are made, and their methods.
 CLASSES = {

@@ -4,7 +4,7 @@ from itertools import combinations
 
 from turncoats.errors import NoPart, NoPlace
 from turncoats.turns import is_number
-from turncoats.webs import come_to, is_place
+from turncoats.webs import come_to, need_place
 
 
 def sides_without(web, gone):
@@ -59,16 +59,16 @@ def beside_among(web, places, place):
 
 
 def round_among(web, places):
-    """What rising places are, if they with all ways among them are one round: as round_of; else ()."""
+    """The round, as round_of tells it, that rising places and all ways among them are; else ().
+
+    The places are a part, maybe without one of its places, so walks among them join them all.
+    """
     beside = {place: beside_among(web, places, place) for place in places}
     if not all([len(beside[place]) == 2 for place in places]):
         return ()
     row = [places[0]]
     while len(row) < len(places):
         ahead = [place for place in beside[row[-1]] if place not in row]
-        # A round of fewer of them is shut already.
-        if not ahead:
-            return ()
         row.append(ahead[0])
     return tuple(row)
 
@@ -90,7 +90,7 @@ def is_seven(web, part):
     if len(part) != 7:
         return False
     for seventh in part:
-        row = round_among(web, tuple([place for place in part if place != seventh]))
+        row = round_among(web, [place for place in part if place != seventh])
         ends = beside_among(web, part, seventh)
         if row != () and len(ends) == 2 and abs(row.index(ends[0]) - row.index(ends[1])) == 3:
             return True
@@ -112,8 +112,7 @@ def kind(web, part):
 def root(web, part, place):
     """The place of a part to which each walk from a place to the part comes first."""
     need_part(web, part)
-    if not is_place(web, place):
-        raise NoPlace(place)
+    need_place(web, place)
     # Each walk to another one of them goes by the root, so that is the nearest.
     for one in come_to(web, place):
         if one in part:
