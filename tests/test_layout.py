@@ -7,6 +7,13 @@ import unittest
 from pathlib import Path
 
 import turncoats
+from turncoats.chains import Chain
+from turncoats.standings import Standing
+from turncoats.standingtexts import standing_text
+from turncoats.webs import Web
+from turncoats.webtexts import web_text
+from turncoats.wishes import Wish
+from turncoats.yard import Yard
 
 PACKAGE = Path(turncoats.__file__).parent
 INTERFACE = {
@@ -32,6 +39,15 @@ INTERFACE = {
         "heights": ["web", "part", "root"], "own_way": ["web", "part", "root", "one", "other"],
         "own_turn": ["standing", "part", "root", "name"], "group_of": ["web", "part", "root"],
     },
+    "wishes": {"wish_of": ["standing"]},
+    "rounds": {
+        "about": ["standing", "part", "n"], "period": ["web", "part"], "abouts": ["standing", "wish", "part"],
+    },
+    "bars": {"bar": ["standing", "wish"]},
+    "judge": {"bars": ["standing", "wish", "thing"]},
+    "reach": {"reach": ["standing", "wish"], "come_of": ["web", "place"]},
+    "fewest": {"fewest": ["standing", "wish", "*most"], "leads": ["standing", "wish", "walk"]},
+    "yard": {"led_by": ["web", "log"]},
 }
 # The classes: how they are made, and their methods.
 CLASSES = {
@@ -42,6 +58,17 @@ CLASSES = {
     ("standings", "Standing"): {
         "__init__": ["web", "folk"], "web": [], "empty": [], "folk": [], "names": [], "where": ["name"],
         "coat": ["name"], "who": ["place"], "step": ["place"], "__eq__": ["other"],
+    },
+    ("wishes", "Wish"): {
+        "__init__": ["web", "empty", "told"], "empty": [], "told": [], "granted": ["standing"], "led": ["walk"],
+        "__eq__": ["other"],
+    },
+    ("chains", "Chain"): {"__init__": ["web", "place"], "size": [], "fold": ["one", "other"]},
+    ("yard", "Yard"): {
+        "__init__": ["web"], "keep": ["name", "folk"], "drop": ["name"], "step": ["name", "place"],
+        "lead": ["name", "fold"], "lay": ["one", "other", "turn"], "shut": ["one", "other"],
+        "dress": ["name", "who", "coat"], "kinds": [], "news": [], "paper": ["name", "other"], "log": [], "web": [],
+        "names": [], "standing": ["name"],
     },
 }
 
@@ -87,6 +114,73 @@ class Interface(unittest.TestCase):
     def test_the_package_itself_binds_nothing(self):
         tree = ast.parse((PACKAGE / "__init__.py").read_text(encoding="utf-8"))
         self.assertEqual([node for node in tree.body if not isinstance(node, ast.Expr)], [])
+
+
+class Named(unittest.TestCase):
+    """[0.3]: arguments by the told names, in any order, defaults left out and told."""
+
+    def setUp(self):
+        self.web = Web(ways=[(0, 1, (1, 2, 0)), (1, 2, (0, 1, 2)), (2, 0, (0, 1, 2))], many=3)
+        self.standing = Standing(folk={"a": (1, (0, 1, 2)), "b": (2, (0, 1, 2))}, web=self.web)
+        self.wish = Wish(told={"a": (2, None)}, empty=0, web=self.web)
+        self.given = {
+            "web": self.web, "standing": self.standing, "wish": self.wish, "part": (0, 1, 2), "root": 0, "name": "a",
+            "place": 0, "one": 0, "other": 1, "thing": ("apart",), "n": 3, "walk": [1, 0], "fold": ((0, (1, 0)),),
+            "begin": 0, "turn": (1, 2, 0), "turns": [(1, 2, 0)], "goal": (2, 0, 1), "group": ((0, 1, 2),), "log": [],
+            "most": 400, "size": 3, "text": "",
+        }
+
+    def given_for(self, file, name):
+        told = dict(self.given)
+        if (file, name) == ("turns", "into"):
+            told.update(one=(1, 2, 0), other=(1, 0, 2))
+        if name == "one_behind_other":
+            told.update(one=self.given["fold"], other=self.given["fold"])
+        if name in ("read_web", "read_standing"):
+            told["text"] = web_text(self.web) if name == "read_web" else standing_text(self.standing)
+        return told
+
+    def test_each_def(self):
+        for file, told in INTERFACE.items():
+            module = importlib.import_module(f"turncoats.{file}")
+            for name, arguments in told.items():
+                with self.subTest(file=file, name=name):
+                    what = getattr(module, name)
+                    given = self.given_for(file, name)
+                    plain = [one for one in arguments if one[0] != "*"]
+                    by_place = what(*[given[one] for one in plain])
+                    by_name = what(**{one: given[one] for one in reversed(plain)})
+                    by_all = what(**{one.lstrip("*"): given[one.lstrip("*")] for one in reversed(arguments)})
+                    if name == "led_by":
+                        by_place, by_name, by_all = by_place.log(), by_name.log(), by_all.log()
+                    self.assertEqual(by_place, by_name)
+                    self.assertEqual(by_place, by_all)
+                    for extra in [one[1:] for one in arguments if one[0] == "*"]:
+                        with self.assertRaises(TypeError):
+                            what(*[given[one] for one in plain], given[extra])
+
+    def test_each_class(self):
+        web, standing = self.web, self.standing
+        self.assertEqual(web, Web(size=3, many=3, ways=web.ways()))
+        self.assertEqual((web.turn(other=1, one=0), web.beside(place=0), web.joined(place=1)),
+                         ((1, 2, 0), [1, 2], (0, 1, 2)))
+        self.assertEqual((standing.where(name="a"), standing.coat(name="a"), standing.who(place=1)), (1, (0, 1, 2), "a"))
+        self.assertEqual(standing.step(place=1), standing.step(1))
+        self.assertEqual(self.wish.granted(standing=standing), False)
+        self.assertEqual(self.wish.led(walk=[1]), self.wish.led([1]))
+        chain = Chain(place=0, web=web)
+        self.assertEqual(chain.fold(other=standing, one=standing), ((0, ()),))
+        yard = Yard(web=web)
+        yard.keep(folk=standing.folk(), name="x")
+        yard.keep(name="y", folk=standing.folk())
+        yard.step(place=1, name="x")
+        yard.lead(fold=((0, (2,)),), name="y")
+        yard.shut(other=1, one=0)
+        yard.lay(turn=(1, 2, 0), other=1, one=0)
+        yard.dress(coat=(1, 0, 2), who="a", name="x")
+        yard.drop(name="y")
+        self.assertEqual(yard.standing(name="x").coat("a"), (1, 0, 2))
+        self.assertEqual(yard.paper(other="x", name="x")[0], "fold")
 
 
 class Files(unittest.TestCase):

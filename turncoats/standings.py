@@ -1,8 +1,8 @@
 """Standings: who stands where in which coat, so that one place is empty."""
 
 from turncoats.errors import BadFolk, NoName, NoStep
-from turncoats.turns import put, size_of
-from turncoats.webs import is_place, need_place
+from turncoats.turns import is_number, put, size_of
+from turncoats.webs import both_ways, is_place, need_place
 
 MOST_LETTERS = 6
 
@@ -33,6 +33,18 @@ def need_folk(web, folk):
     if len(there) != web.many() - 1:
         raise BadFolk(None)
     return there
+
+
+def need_walk(web, begin, walk):
+    """Refuse anything that is no walk of the empty place, which is there when it begins."""
+    if not isinstance(walk, (list, tuple)):
+        raise NoStep(0)
+    turns = both_ways(web.ways())
+    here = begin
+    for at, place in enumerate(walk):
+        if not is_number(place) or (place, here) not in turns:
+            raise NoStep(at)
+        here = place
 
 
 class Standing:

@@ -6,8 +6,8 @@ behind; so what one line does and then another one is the one put into the other
 place goes along as if a plain coat stood there.
 """
 
-from turncoats.errors import NoFold, NoStep, TooLong, Unlike
-from turncoats.standings import Standing
+from turncoats.errors import NoFold, TooLong, Unlike
+from turncoats.standings import Standing, need_walk
 from turncoats.turns import back, is_number, put
 from turncoats.webs import both_ways, is_below, is_place
 
@@ -17,15 +17,12 @@ MOST_ITEMS = 400
 
 def walked(standing, walk):
     """The standing behind a walk."""
-    if not isinstance(walk, (list, tuple)):
-        raise NoStep(0)
+    need_walk(standing.web(), standing.empty(), walk)
     turns = both_ways(standing.web().ways())
     folk = standing.folk()
     there = {folk[name][0]: name for name in folk}
     here = standing.empty()
-    for at, place in enumerate(walk):
-        if not is_number(place) or (place, here) not in turns:
-            raise NoStep(at)
+    for place in walk:
         name = there.pop(place)
         there[here] = name
         folk[name] = (here, put(folk[name][1], turns[place, here]))
@@ -224,10 +221,10 @@ def turned_back(web, fold):
     return (*fold, (end, (("line", len(fold) - 1, -1),)))
 
 
-def moved(line, by):
-    """A line behind so many others put ahead of its fold."""
+def renumbered(line, numbers):
+    """A line that does lines by other numbers, which a row or dict of numbers tells."""
     begin, items = line
-    return begin, tuple([item if is_number(item) else ("line", item[1] + by, item[2]) for item in items])
+    return begin, tuple([item if is_number(item) else ("line", numbers[item[1]], item[2]) for item in items])
 
 
 def one_behind_other(web, one, other):
@@ -235,5 +232,6 @@ def one_behind_other(web, one, other):
     begin, end = need_fold(web, one)[-1]
     if need_fold(web, other)[-1][0] != end:
         raise Unlike("the second begins elsewhere than the first ends")
-    lines = [*one, *[moved(line, len(one)) for line in other]]
+    numbers = list(range(len(one), len(one) + len(other)))
+    lines = [*one, *[renumbered(line, numbers) for line in other]]
     return (*lines, doing(begin, (len(one) - 1, len(lines) - 1)))

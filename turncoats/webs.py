@@ -66,6 +66,22 @@ def come_to(web, start, gone=None):
     return found
 
 
+def walks_from(web, start):
+    """A dict from the places joined to a start, the nearest first, to the least of the shortest walks there."""
+    walks = {start: []}
+    row = [start]
+    at = 0
+    # Places are met by rising walks, shorter ones first, so each by its least of the shortest.
+    while at < len(row):
+        here = row[at]
+        for place in web.beside(here):
+            if place not in walks:
+                walks[place] = walks[here] + [place]
+                row.append(place)
+        at += 1
+    return walks
+
+
 class Web:
     """Places from 0 to below many, joined by ways; it never changes."""
 
