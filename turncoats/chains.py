@@ -96,7 +96,7 @@ class Chain:
         return trimmed((*self._lines, (self._place, tuple([("line", k, 1) for k in numbers]))))
 
     def _sifted(self, points, at):
-        """What is left of points behind undoing a line of each level from one on, and these lines."""
+        """What is left of points when a line of each level from one on is undone, and the lines' numbers."""
         numbers = []
         for level in self._levels[at:]:
             k = level.reached.get(points[level.point])
@@ -155,7 +155,7 @@ class Chain:
             at = at - 1 if grown is None else grown
 
     def _look(self, at):
-        """Whether what a level's lines do, its point put back, is all had further on; else as _take tells."""
+        """Take up what a level's lines do that leaves its point, until something is new; tell as _take does."""
         level = self._levels[at]
         for point in list(level.reached):
             for k in list(level.movers):
@@ -167,7 +167,7 @@ class Chain:
         return None
 
     def _take_back(self, level, point, mover, at):
-        """Take up what a line does between those that put a level's point there and back."""
+        """Take up what a line does between the lines by which a level's point is put there and back."""
         points = self._done[mover]
         items = [("line", mover, 1)]
         there = level.reached[point]
