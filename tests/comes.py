@@ -4,8 +4,6 @@ and wishes of many kinds, granted by the document's words alone.
 A standing is told here as a row: for each place a pair (name, coat), None for the empty one.
 """
 
-from random import Random
-
 from tests.nets import beside_of, some_walk, turn_of, walked_by
 from tests.things import ALL, GROUPS, composed, inverse, plain_of
 from turncoats.standings import Standing

@@ -233,7 +233,8 @@ class Told(unittest.TestCase):
         pick = Random(25)
         counts = {}
         for shape in ("two rounds at a place", "three rounds at a place", "rounds, a way between", "rounds apart",
-                      "five and round", "five in more", "seven in more", "cube", "all of six", "round and a tail to it"):
+                      "five and round", "five in more", "seven in more", "cube", "all of six",
+                      "round and a tail to it"):
             for size in (2, 3, 4, 5):
                 many, pairs = pairs_of(shape)
                 web = web_with(many, pairs, size, pick)
@@ -256,8 +257,8 @@ class Refused(unittest.TestCase):
         refused(self, Unlike, bar, AT_FIVE, Wish(other, 0, {"x": (1, None)}))
         told = {"x": (1, None), "a": (2, None), "f": (3, None), "z": (4, None)}
         self.assertEqual(refused(self, NoWish, bar, AT_FIVE, wish_with(AT_FIVE, told)).name, "f")
-        self.assertEqual(refused(self, NoWish, bar, standing_of(Web(3, [])), Wish(Web(3, []), 1, {"x": (0, None)})).name,
-                         "x")
+        web = Web(3, [])
+        self.assertEqual(refused(self, NoWish, bar, standing_of(web), Wish(web, 1, {"x": (0, None)})).name, "x")
         self.assertIs(bar(wish=wish_with(AT_FIVE, {}), standing=AT_FIVE), None)
 
     def test_a_web_made_anew_is_the_same(self):

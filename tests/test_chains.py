@@ -6,7 +6,7 @@ from random import Random
 from tests.barring import AT_SEVEN, FOUR, PLAIN, SEVEN, SWAP, THIRD, exchanged
 from tests.comes import come, near_miss, standing_by, web_with
 from tests.nets import ANYTHING, NO_PLACES, SHAPES, pairs_of, some_walk, standing_of, web_by
-from tests.things import plain_of, refused
+from tests.things import ALL, plain_of, refused
 from turncoats.chains import Chain
 from turncoats.errors import NoPlace, Unlike
 from turncoats.foldtexts import fold_text, read_fold
@@ -90,7 +90,7 @@ class Fold(unittest.TestCase):
             known = {row: True for row in rows}
             for _ in range(12):
                 wish = near_miss(standing, pick)
-                told = {name: pair for name, pair in wish.told().items() if pair[1] is not None and pair[1][0] != "spot"}
+                told = {name: pair for name, pair in wish.told().items() if pair[1] in ALL[web.size()]}
                 if wish.empty() == place and len(told) == web.many() - 1:
                     other = Standing(web, told)
                     row = tuple(other.who(at) and (other.who(at), other.coat(other.who(at)))

@@ -50,9 +50,8 @@ class Fewest(unittest.TestCase):
             for _ in range(3):
                 wish = near_miss(standing, pick)
                 at, walk = first_of(walks, wish)
-                for most in {1, 2, 3, len(walks) - 1, len(walks), len(walks) + 1, *(() if at is None else (at, at + 1))}:
-                    if most < 1:
-                        continue
+                near = {1, 2, 3, len(walks) - 1, len(walks), len(walks) + 1, at or 1, (at or 1) + 1}
+                for most in sorted(near - {0}):
                     if at is not None and at < most:
                         self.assertEqual(fewest(standing, wish, most=most), ("walk", walk))
                     elif len(walks) > most:
@@ -133,8 +132,8 @@ class Leads(unittest.TestCase):
         wish = Wish(FOUR, 2, {})
         self.assertIs(leads(AT_FOUR, wish, [1, 2]), True)
         self.assertIs(leads(walk=(2,), wish=wish, standing=AT_FOUR), True)
-        for at, thing in enumerate([*NO_LISTS, *ANYTHING, [2, 2], [1], [1, 3], [1, 2, None], [1, 3, 2], ["2"], "2", "12",
-                                    {2: 2}, [[2]], [(2,)], (1, 2, 4), [3, 2, -1], [4, 2]]):
+        for at, thing in enumerate([*NO_LISTS, *ANYTHING, [2, 2], [1], [1, 3], [1, 2, None], [1, 3, 2], ["2"], "2",
+                                    "12", {2: 2}, [[2]], [(2,)], (1, 2, 4), [3, 2, -1], [4, 2]]):
             with self.subTest(at=at):
                 self.assertIs(leads(AT_FOUR, wish, thing), False)
         # Truths are no places.

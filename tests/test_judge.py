@@ -242,7 +242,8 @@ class Lot(Case):
         self.bans(AT_FIVE, self.DRESSED, ("lot", (0, 1, 2, 3), "a", A3), ("lot", (0, 1, 2, 4, 3), "a", A3),
                   ("lot", [0, 1, 2, 3, 4], "a", A3), ("lot", (False, 1, 2, 3, 4), "a", A3),
                   ("lot", (0, 1, 2, 3, 4), "a"), ("lot", (0, 1, 2, 3, 4), "a", A3, A3), ("folk", (0, 1, 2, 3, 4), "a"),
-                  ["lot", (0, 1, 2, 3, 4), "a", A3], ("sign", (0, 1, 2, 3, 4), "a", A3), ("lot", (0, 1, 2, 3, 4), A3, "a"))
+                  ["lot", (0, 1, 2, 3, 4), "a", A3], ("sign", (0, 1, 2, 3, 4), "a", A3),
+                  ("lot", (0, 1, 2, 3, 4), A3, "a"))
 
 
 class Sign(Case):
@@ -394,7 +395,8 @@ class Thirds(Case):
             self.assertIs(bars(AT_FIVE, GONE_ON, (word, part, one, rows)), one == leading)
         for one in (leadings(A3)[0], {PLAIN: 0}, {turn: 0 for turn in S3}, {}, A3, list(A3),
                     {turn: leading.get(turn, 0) for turn in S3}, without(leading, THIRD), without(leading, PLAIN),
-                    *[another(leading, turn, worth) for turn in A3 for worth in (3, -1, 4, True, False, None, "1", ())]):
+                    *[another(leading, turn, worth) for turn in A3
+                      for worth in (3, -1, 4, True, False, None, "1", ())]):
             self.bans(AT_FIVE, GONE_ON, (word, part, one, rows))
 
     def test_no_rows(self):
@@ -449,14 +451,16 @@ class Seven(Case):
             # The same with two places exchanged is another five of pairings.
             others = [one for one in part if one != place]
             for one, other in combinations(others, 2):
-                told = tuple(sorted(put_for(put_for(put_for(row, one, 9), other, one), 9, other) for row in rows[place]))
+                told = tuple(sorted(put_for(put_for(put_for(row, one, 9), other, one), 9, other)
+                                    for row in rows[place]))
                 self.assertNotEqual(told, rows[place])
                 self.bans(AT_SEVEN, MIXED, (word, part, another(rows, place, told)))
 
     def test_no_rows(self):
         word, part, rows = ROWS
         five = rows[0]
-        for told in (five[::-1], five[:4], five + five[:1], (five[0], *five[:4]), list(five), (five[0][::-1], *five[1:]),
+        for told in (five[::-1], five[:4], five + five[:1], (five[0], *five[:4]), list(five),
+                     (five[0][::-1], *five[1:]),
                      ((five[0][0][::-1], *five[0][1:]), *five[1:]), (list(five[0]), *five[1:]), (None, *five[1:]),
                      (five[0][:2], *five[1:]), ((*five[0][:2], (1, 7)), *five[1:]), five[0], None, (), 0, {}, "",
                      ((*five[0][:2], (True, 6)), *five[1:]), ((*five[0][:2], five[1][2]), *five[1:]),

@@ -164,7 +164,8 @@ class Named(unittest.TestCase):
         self.assertEqual(web, Web(size=3, many=3, ways=web.ways()))
         self.assertEqual((web.turn(other=1, one=0), web.beside(place=0), web.joined(place=1)),
                          ((1, 2, 0), [1, 2], (0, 1, 2)))
-        self.assertEqual((standing.where(name="a"), standing.coat(name="a"), standing.who(place=1)), (1, (0, 1, 2), "a"))
+        self.assertEqual((standing.where(name="a"), standing.coat(name="a")), (1, (0, 1, 2)))
+        self.assertEqual(standing.who(place=1), "a")
         self.assertEqual(standing.step(place=1), standing.step(1))
         self.assertEqual(self.wish.granted(standing=standing), False)
         self.assertEqual(self.wish.led(walk=[1]), self.wish.led([1]))

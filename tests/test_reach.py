@@ -4,7 +4,9 @@ import unittest
 from math import factorial
 from random import Random
 
-from tests.barring import AT_FIVE, AT_FOUR, AT_SEVEN, AT_TWO, FIVE, FOUR, PLAIN, SEVEN, SWAP, THIRD, TWO, exchanged, wish_with
+from tests.barring import (
+    AT_FIVE, AT_FOUR, AT_SEVEN, AT_TWO, FIVE, FOUR, PLAIN, SEVEN, SWAP, THIRD, TWO, exchanged, wish_with,
+)
 from tests.comes import come, grants_wish, near_miss, some_wish, standing_by, web_with
 from tests.nets import NO_PLACES, SHAPES, pairs_of, some_walk, standing_of
 from tests.test_chains import small_webs

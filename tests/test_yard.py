@@ -61,7 +61,8 @@ class Keep(Case):
         self.assertIs(yard.keep("two", FOLK), None)
         self.assertIs(yard.keep(folk=OTHERS, name="one"), None)
         self.assertEqual(yard.names(), ["one", "two"])
-        self.assertEqual((yard.standing("two"), yard.standing(name="one")), (Standing(WEB, FOLK), Standing(WEB, OTHERS)))
+        self.assertEqual(yard.standing("two"), Standing(WEB, FOLK))
+        self.assertEqual(yard.standing(name="one"), Standing(WEB, OTHERS))
         yard.keep("two", OTHERS)
         self.assertEqual((yard.names(), yard.standing("two")), (["one", "two"], Standing(WEB, OTHERS)))
 
@@ -181,8 +182,9 @@ class Lay(Case):
 
     def test_refused(self):
         yard = filled()
-        for one, other, turn in [(0, 1, PLAIN), (1, 0, PLAIN), (1, 2, SWAP), (0, 0, PLAIN), (0, 4, PLAIN), (-1, 3, PLAIN),
-                                 (1, 3, (0, 1)), (1, 3, (0, 1, 2, 3)), (1, 3, [0, 1, 2]), (True, 3, PLAIN)]:
+        for one, other, turn in [(0, 1, PLAIN), (1, 0, PLAIN), (1, 2, SWAP), (0, 0, PLAIN), (0, 4, PLAIN),
+                                 (-1, 3, PLAIN), (1, 3, (0, 1)), (1, 3, (0, 1, 2, 3)), (1, 3, [0, 1, 2]),
+                                 (True, 3, PLAIN)]:
             self.refuses(yard, BadWeb, "lay", one, other, turn)
         for at, thing in enumerate([*NO_PLACES, 4]):
             with self.subTest(at=at):
@@ -391,7 +393,8 @@ class Kinds(Case):
             plain = plain_of(size)
             pairs = [(0, 1)] + [(one, other) for one in (0, 1) for other in range(2, many)]
             turn = (1, 0, *range(2, size))
-            web = Web(many, [(one, other, turn if (one, other) == (1, 2) else plain) for one, other in pairs], size=size)
+            web = Web(many, [(one, other, turn if (one, other) == (1, 2) else plain) for one, other in pairs],
+                      size=size)
             folk = standing_of(web, 3).folk()
             names = sorted(folk)
             yard = Yard(web)
@@ -584,11 +587,12 @@ class Log(Case):
     def test_the_first_row_that_is_no_deed(self):
         keep = self.LOG[0]
         rows = [*ANYTHING, (), ("keep",), ("keep", "a"), (*keep, 0), ("drop",), ("drop", "one", 0), ("step", "one"),
-                ("step", "one", 2, 0), ("lead", "one"), ("lead", "one", FOLD, 0), ("lay", 3, 1), ("lay", 3, 1, PLAIN, 0),
-                ("shut", 0), ("shut", 0, 1, 2), ("dress", "one", "anna"), ("dress", "one", "anna", SWAP, 0),
+                ("step", "one", 2, 0), ("lead", "one"), ("lead", "one", FOLD, 0), ("lay", 3, 1),
+                ("lay", 3, 1, PLAIN, 0), ("shut", 0), ("shut", 0, 1, 2), ("dress", "one", "anna"),
+                ("dress", "one", "anna", SWAP, 0),
                 ("Step", "one", 2), ("steps", "one", 2), ("", "one", 2), (None, "one", 2), (("step",), "one", 2),
-                ["step", "one", 2], [*keep], ("news",), ("kinds",), ("web",), ("log",), ("names",), ("paper", "one", "two"),
-                ("standing", "one"), "drop", {"drop": "one"}, (["drop"], "one"), ({}, "one")]
+                ["step", "one", 2], [*keep], ("news",), ("kinds",), ("web",), ("log",), ("names",),
+                ("paper", "one", "two"), ("standing", "one"), "drop", {"drop": "one"}, (["drop"], "one"), ({}, "one")]
         for at, row in enumerate(rows):
             with self.subTest(at=at):
                 self.assertEqual(refused(self, NoLog, led_by, WEB, [row]).at, 0)
@@ -608,11 +612,12 @@ class Log(Case):
 
     def test_the_first_row_that_is_refused(self):
         for row in [("keep", "One", self.LOG[0][2]), ("keep", None, self.LOG[0][2]), ("drop", "three"), ("drop", []),
-                    ("step", "three", 2), ("step", "one", 3), ("step", "one", None), ("step", {}, 2), ("lead", "one", FOLD[1:]),
-                    ("lead", "one", list(FOLD)), ("lead", "three", FOLD), ("lay", 0, 1, PLAIN), ("lay", 3, 1, (0, 1)),
-                    ("lay", None, [], {}), ("shut", 0, 3), ("shut", 9, 0), ("shut", [], 0), ("dress", "one", "cora", SWAP),
-                    ("dress", "three", "anna", SWAP), ("dress", "one", "anna", (0, 1)), ("dress", "one", "anna", [0, 1, 2]),
-                    ("dress", [], [], [])]:
+                    ("step", "three", 2), ("step", "one", 3), ("step", "one", None), ("step", {}, 2),
+                    ("lead", "one", FOLD[1:]), ("lead", "one", list(FOLD)), ("lead", "three", FOLD), ("lay", 0, 1, PLAIN),
+                    ("lay", 3, 1, (0, 1)),
+                    ("lay", None, [], {}), ("shut", 0, 3), ("shut", 9, 0), ("shut", [], 0),
+                    ("dress", "one", "cora", SWAP), ("dress", "three", "anna", SWAP), ("dress", "one", "anna", (0, 1)),
+                    ("dress", "one", "anna", [0, 1, 2]), ("dress", [], [], [])]:
             with self.subTest(row=row):
                 self.assertEqual(refused(self, NoLog, led_by, WEB, [*self.LOG[:2], row, ("drop", "nobody")]).at, 2)
         eight = [("keep", name, self.LOG[0][2]) for name in "abcdefgh"]
