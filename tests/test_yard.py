@@ -613,8 +613,8 @@ class Log(Case):
     def test_the_first_row_that_is_refused(self):
         for row in [("keep", "One", self.LOG[0][2]), ("keep", None, self.LOG[0][2]), ("drop", "three"), ("drop", []),
                     ("step", "three", 2), ("step", "one", 3), ("step", "one", None), ("step", {}, 2),
-                    ("lead", "one", FOLD[1:]), ("lead", "one", list(FOLD)), ("lead", "three", FOLD), ("lay", 0, 1, PLAIN),
-                    ("lay", 3, 1, (0, 1)),
+                    ("lead", "one", FOLD[1:]), ("lead", "one", list(FOLD)), ("lead", "three", FOLD),
+                    ("lay", 0, 1, PLAIN), ("lay", 3, 1, (0, 1)),
                     ("lay", None, [], {}), ("shut", 0, 3), ("shut", 9, 0), ("shut", [], 0),
                     ("dress", "one", "cora", SWAP), ("dress", "three", "anna", SWAP), ("dress", "one", "anna", (0, 1)),
                     ("dress", "one", "anna", [0, 1, 2]), ("dress", [], [], [])]:
